@@ -1,0 +1,1 @@
+"""Surveyed surfaces: see surveyed.surfaces.answers."""
