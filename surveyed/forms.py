@@ -14,11 +14,29 @@ PLAIN_RANGES = {
     9: ((1, 4), (0, 1000), (1, 1000)),
     10: ((1, 4), (-10000, 10000)),
     11: ((1, 4), (0, 10000), (0, 10000), (0, 10000), (0, 10000), (1, 50)),
+    12: ((1, 4), (1, 200)),
+    13: ((1, 4),),
+    14: ((1, 4), (1, 200)),
+    15: ((1, 4), (1, 200), (-10000, 10000)),
+    16: ((1, 4), (0, 10000), (0, 10000), (-10000, 10000)),
+    17: ((1, 4), (1, 200), (1, 200)),
+    18: ((1, 4), (1, 4)),
+    19: ((1, 4), (-10000, 10000)),
+    20: (),
+    21: ((1, 4), (1, 4)),
+    22: ((1, 4), (0, 10000), (0, 10000)),
 }
 
 # The least and greatest number within each row, for the calls that have rows.
 ROW_RANGES = {
     0: ((0, 255),),
+    20: ((-1000000, 1000000), (1, 1000000)),
+}
+
+# How many numbers a row may have, for the rows that have such a range: the lengths of levels
+# have none, as another count than that of the differences is a refusal of its own.
+ROW_COUNTS = {
+    20: ((1, 30),),
 }
 
 # How many of the first arguments are slots that must have a surface, where it is not one.
@@ -26,6 +44,8 @@ SLOTS_ASKED = {
     0: 0,
     5: 2,
     6: 2,
+    20: 0,
+    21: 2,
 }
 
 
@@ -56,14 +76,22 @@ def split_calls(numbers):
     return calls
 
 
+def is_within(value, ends):
+    """Whether a value is not beyond the ends of its range."""
+    return ends[0] <= value and value <= ends[1]
+
+
 def in_ranges(call):
-    """Whether each argument and each number of a row is within its range."""
+    """Whether each argument, each number of a row and how many there are is within its range."""
     for value, ends in zip(call.plain, PLAIN_RANGES[call.number]):
-        if value < ends[0] or value > ends[1]:
+        if not is_within(value, ends):
+            return False
+    for row, ends in zip(call.rows, ROW_COUNTS.get(call.number, ())):
+        if not is_within(len(row), ends):
             return False
     for row, ends in zip(call.rows, ROW_RANGES.get(call.number, ())):
         for value in row:
-            if value < ends[0] or value > ends[1]:
+            if not is_within(value, ends):
                 return False
     return True
 

@@ -26,6 +26,24 @@ def corner_shares(triangle, x, y, d):
     return [share_a, share_b, share_c]
 
 
+def faces_at(surface, x, y):
+    """The numbers of the faces within which a whole place is."""
+    found = []
+    for number, triangle in enumerate(surface.triangles, start=1):
+        if corner_shares(triangle, x, y, 1) is not None:
+            found.append(number)
+    return found
+
+
+def face_holding(surface, x, y):
+    """The number of the face that holds a whole place off its edges, 0 if none does."""
+    for number in faces_at(surface, x, y):
+        # On an edge, the corner across from it has no share.
+        if 0 not in corner_shares(surface.triangles[number - 1], x, y, 1):
+            return number
+    return 0
+
+
 def height_at(surface, x, y, d):
     """The height at the place as a fraction, None if it is within no face."""
     for triangle in surface.triangles:

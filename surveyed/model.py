@@ -2,6 +2,8 @@
 
 FARTHEST = 10000
 HIGHEST = 10000
+MOST_POINTS = 40
+MOST_FACES = 60
 
 
 class Point:
@@ -29,6 +31,16 @@ class Surface:
         """The point of this number."""
         return self.points[number - 1]
 
-    def corners(self, face):
-        """The three points of a face, as they are told."""
-        return [self.point(number) for number in face]
+    def corners(self, numbers):
+        """The points of these numbers, in this order."""
+        return [self.point(number) for number in numbers]
+
+
+def told_points(surface):
+    """Each point's x, y and height."""
+    return [(point.x, point.y, point.z) for point in surface.points]
+
+
+def is_same(first, second):
+    """Whether both surfaces have the same points and faces in the same order."""
+    return told_points(first) == told_points(second) and first.faces == second.faces

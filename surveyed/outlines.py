@@ -25,6 +25,15 @@ def rim_edges(faces):
     return [edge for edge in edges if (edge[1], edge[0]) not in there]
 
 
+def faces_around(surface, face):
+    """For each edge of a face the number of the face on its other side, 0 if there is none."""
+    owners = {}
+    for number, other in enumerate(surface.faces, start=1):
+        for edge in face_edges(other):
+            owners[edge] = number
+    return [owners.get((edge[1], edge[0]), 0) for edge in face_edges(face)]
+
+
 def ring_from_least(edges):
     """The points that the edges lead through, from the least on, till one comes again."""
     following = dict(edges)

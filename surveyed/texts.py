@@ -1,6 +1,6 @@
 """Surfaces read from texts, and told as texts. A text is a list of bytes."""
 
-from surveyed.model import FARTHEST, HIGHEST, Point, Surface
+from surveyed.model import FARTHEST, HIGHEST, MOST_FACES, MOST_POINTS, Point, Surface
 from surveyed.outlines import unsound_kind
 from surveyed.plane import twice_area
 
@@ -10,8 +10,6 @@ REMARK = 35
 MINUS = 45
 ZERO = 48
 NINE = 57
-MOST_POINTS = 40
-MOST_FACES = 60
 
 
 class Reading:

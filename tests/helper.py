@@ -6,7 +6,9 @@ from surveyed.surfaces import answers
 
 NUMBERS = {
     "text": 1, "facts": 2, "height": 3, "volume": 4, "net": 5, "cells": 6,
-    "outline": 7, "slope": 8, "steep": 9, "contour": 10, "profile": 11,
+    "outline": 7, "slope": 8, "steep": 9, "contour": 10, "profile": 11, "down": 12,
+    "basins": 13, "around": 14, "raise": 15, "insert": 16, "flip": 17, "copy": 18,
+    "shift": 19, "same": 21, "find": 22,
 }
 
 HUGE = 10 ** 18
@@ -20,6 +22,11 @@ def load(slot, text):
 
 def call(name, *arguments):
     return [NUMBERS[name], *arguments]
+
+
+def levels(differences, lengths):
+    """The numbers of a levels call with its two rows."""
+    return [20, len(differences), *differences, len(lengths), *lengths]
 
 
 def parted(told):
@@ -50,8 +57,8 @@ def surface(points, faces):
     return "".join(lines)
 
 
-def grid(columns, rows, step, height):
-    """A text of columns times rows points, by rows, with two faces for each square."""
+def grid_parts(columns, rows, step, height):
+    """Columns times rows points, by rows, and two faces for each square."""
     points = [(x * step, y * step, height(x, y)) for y in range(rows) for x in range(columns)]
     faces = []
     for y in range(rows - 1):
@@ -59,22 +66,62 @@ def grid(columns, rows, step, height):
             a = y * columns + x + 1
             faces.append((a, a + 1, a + columns + 1))
             faces.append((a, a + columns + 1, a + columns))
-    return surface(points, faces)
+    return points, faces
+
+
+def grid(columns, rows, step, height):
+    """The text of a grid."""
+    return surface(*grid_parts(columns, rows, step, height))
+
+
+def grown(points, faces, more):
+    """Points and faces with so many more points, each within a face that is parted in three."""
+    points, faces = list(points), list(faces)
+    for number in range(len(points) + 1, len(points) + more + 1):
+        # The middle of a face is within it and on no edge of any.
+        at = (number * 7) % len(faces)
+        x, y = middle(points, faces[at])
+        points.append((x, y, number))
+        a, b, c = faces[at]
+        faces[at] = (a, b, number)
+        faces += [(b, c, number), (c, a, number)]
+    return points, faces
+
+
+def middle(points, face):
+    """The whole place next to the middle of a face."""
+    corners = [points[n - 1] for n in face]
+    return sum(p[0] for p in corners) // 3, sum(p[1] for p in corners) // 3
 
 
 def sixty_faces():
     """A text of a square with 29 points within: 33 points and 60 faces."""
     points = [(0, 0, 0), (9000, 0, 30), (9000, 9000, 60), (0, 9000, 90)]
-    faces = [(1, 2, 3), (1, 3, 4)]
-    for number in range(5, 34):
-        # The middle of a face is within it and on no edge of any.
-        at = (number * 7) % len(faces)
-        corners = [points[n - 1] for n in faces[at]]
-        points.append((sum(p[0] for p in corners) // 3, sum(p[1] for p in corners) // 3, number))
-        a, b, c = faces[at]
-        faces[at] = (a, b, number)
-        faces += [(b, c, number), (c, a, number)]
-    return surface(points, faces)
+    return surface(*grown(points, [(1, 2, 3), (1, 3, 4)], 29))
+
+
+def largest(height):
+    """The points and faces of a grid with more points within: 40 points and 60 faces."""
+    return grown(*grid_parts(5, 6, 2000, height), 10)
+
+
+def looks(points, faces):
+    """Calls of every kind that tells of slot 1, where such points and faces are; slot 2 has one too."""
+    far = max(max(point[:2]) for point in points)
+    found = [call(name, 1) for name in ("text", "facts", "outline", "basins")]
+    found += [call("volume", 1, h) for h in (0, -7)]
+    found += [call(name, *slots) for name in ("net", "same") for slots in ((1, 2), (2, 1))]
+    found += [call("cells", 1, 2, 1000), call("cells", 2, 1, 500), call("cells", 1, 1, 500)]
+    found += [call("steep", 1, n, 10) for n in (0, 5, 20)]
+    found += [call("contour", 1, h) for h in (-5, 1, 5, 8, 15)]
+    found += [call("profile", 1, 0, 0, far, far, 9), call("profile", 1, far, 1, 1, far, 5)]
+    for number, (x, y, z) in enumerate(points, start=1):
+        found += [call("down", 1, number), call("find", 1, x, y), call("height", 1, 2 * x + 1, 2 * y + 1, 2)]
+    for number, face in enumerate(faces, start=1):
+        x, y = middle(points, face)
+        found += [call("around", 1, number), call("slope", 1, number), call("find", 1, x, y)]
+    found += [call(name, 1, len(points if name == "down" else faces) + 1) for name in ("down", "around", "slope")]
+    return found
 
 
 # One face: its height is x + 2 y.
@@ -90,7 +137,30 @@ PYRAMID = surface(
 )
 
 
+def joined(rows):
+    return [number for row in rows for number in row]
+
+
 class CallCase(unittest.TestCase):
+    def assert_becomes(self, text, edits, points, faces):
+        """After edits in slot 1 each call tells of it what it tells of these points and faces, when loaded."""
+        asked = looks(points, faces)
+        edited = ask(load(1, text), load(2, text), *edits, *asked)
+        fresh = ask(load(1, surface(points, faces)), load(2, text), *asked)
+        self.assertEqual(fresh[:2], [[0, 0, len(points), len(faces)], edited[1]], "the test's own surface has a fault")
+        for one, answer, expected in zip(asked, edited[-len(asked):], fresh[-len(asked):], strict=True):
+            self.assertEqual(answer, expected, one)
+        return edited[2:-len(asked)]
+
+    def assert_refused(self, refusal, text, *one):
+        """The call is refused in slot 1 and nothing changes in any slot."""
+        loads = [load(1, text), load(2, PYRAMID), load(3, SQUARE)]
+        texts = [call("text", slot) for slot in (1, 2, 3, 4)]
+        told = ask(*loads, *texts, call(*one), *texts)
+        self.assertEqual(told[0][:2], [0, 0], "the test's own text has a fault")
+        self.assertEqual(told[7], [refusal], one)
+        self.assertEqual(told[8:], told[3:7], one)
+
     def told(self, text, *one):
         """What one call answers on the text's surface in slot 1."""
         loaded, answer = ask(load(1, text), call(*one))
